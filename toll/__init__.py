@@ -1,0 +1,1 @@
+"""Toll: what programs cost, told ahead."""
