@@ -111,7 +111,9 @@ class Language(unittest.TestCase):
                     bound.append(node.targets[0].id)
                     self.hold(not each(node.value, ast.Call, ast.Set), node, "L3")
                     self.hold(len(each(node.value, ast.List, ast.Dict)) <= 1, node, "L15")
-                elif not isinstance(node, ast.ImportFrom):
+                elif isinstance(node, ast.ImportFrom):
+                    bound.extend(alias.asname or alias.name for alias in node.names)
+                else:
                     bound.append(node.name)
             self.assertIsNotNone(ast.get_docstring(tree))
             self.assertEqual(len(set(bound)), len(bound))
