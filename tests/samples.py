@@ -145,3 +145,17 @@ def any_program(chance):
     heads = [any_head(chance, "f" + letter) for letter in "abcdefgh"[:chance.randint(1, 8)]]
     return tuple(
         (name, params, gives, any_body(chance, gives[0], dict(params), heads, 3)) for name, params, gives in heads)
+
+
+def any_tree(chance, many):
+    if many == 0:
+        return None
+    left = chance.randint(0, many - 1)
+    return (any_tree(chance, left), chance.randint(-9, 9), any_tree(chance, many - 1 - left))
+
+
+def any_value(chance, shape, most=6):
+    if shape == "num":
+        return chance.randint(-9, 9)
+    many = chance.randint(0, most)
+    return tuple(chance.randint(-9, 9) for number in range(many)) if shape == "list" else any_tree(chance, many)

@@ -1,5 +1,7 @@
 """Programs as tuples, and when one is right."""
 
+from toll.errors import NoFunction
+
 LETTERS = "abcdefghijklmnopqrstuvwxyz"
 
 SHAPES = ("num", "list", "tree")
@@ -35,6 +37,13 @@ def is_name(thing):
 
 def unlike(names):
     return len(set(names)) == len(names)
+
+
+def function_of(program, name):
+    for function in program:
+        if function[0] == name:
+            return function
+    raise NoFunction(f"no function has the name {name!r}")
 
 
 def right(program):
