@@ -159,3 +159,52 @@ def any_value(chance, shape, most=6):
         return chance.randint(-9, 9)
     many = chance.randint(0, most)
     return tuple(chance.randint(-9, 9) for number in range(many)) if shape == "list" else any_tree(chance, many)
+
+
+# Programs of which many have sums: each function may call those behind it, with anything, and itself, with what came of
+# opening its first param.
+
+
+def measured_program(chance):
+    heads = []
+    for letter in "fghk"[:chance.randint(1, 4)]:
+        params = (("p", chance.choice(("list", "tree"))),)
+        params += tuple((name, chance.choice(("num", "list", "tree"))) for name in "qr"[:chance.randint(0, 2)])
+        shape = chance.choice(("num", "num", "list", "tree"))
+        size = [chance.randint(0, 2)] + [0 if due == "num" else chance.randint(0, 2) for name, due in params]
+        heads.append((letter, params, (shape, tuple(number if shape != "num" else 0 for number in size))))
+    return tuple(
+        (name, params, gives, measured_body(chance, heads, place)) for place, (name, params, gives) in enumerate(heads))
+
+
+def measured_body(chance, heads, place):
+    name, params, gives = heads[place]
+    names = dict(params)
+    later = heads[place + 1:]
+
+    def expression(due, stand, deep=2):
+        return any_expression(chance, due, stand, later, deep)
+
+    def again(stand, part):
+        args = (("var", part),) + tuple(
+            ("var", param) if chance.random() < 0.7 else expression(due, stand, 1) for param, due in params[1:])
+        return ("call", name, args)
+
+    def ended(stand):
+        if chance.random() < 0.3:
+            return ("less", expression("num", stand, 1), expression("num", stand, 1),
+                    ("give", expression(gives[0], stand)), ("give", expression(gives[0], stand)))
+        return ("give", expression(gives[0], stand))
+
+    def goes_on(stand, parts):
+        brought = "xy"[:chance.randint(1, len(parts))]
+        body = ended({**stand, **{each: gives[0] for each in brought}})
+        for each, part in zip(brought, parts):
+            body = ("let", each, again(stand, part), body)
+        return body
+
+    if params[0][1] == "list":
+        stand = {**names, "h": "num", "t": "list"}
+        return ("list", "p", ended(names), "h", "t", goes_on(stand, ["t"]))
+    stand = {**names, "a": "tree", "b": "num", "c": "tree"}
+    return ("tree", "p", ended(names), "a", "b", "c", goes_on(stand, chance.sample(["a", "c"], 2)))
