@@ -198,6 +198,35 @@ class Language(unittest.TestCase):
                 if node.id in ("set", "frozenset"):
                     self.hold(isinstance(node.ctx, ast.Load), node, "L24")
 
+    def test_each_walk_is_on_the_spot(self):
+        takers = ("list", "tuple", "dict", "sorted", "sum", "any", "all", "enumerate", "zip")
+        for file, text, tree in self.each_file():
+            fine = [node.iter for node in each(tree, ast.For, ast.comprehension)]
+            for node in each(tree, ast.Call):
+                if isinstance(node.func, ast.Name) and node.args:
+                    alone = node.func.id in ("min", "max") and len(node.args) == 1
+                    fine.extend(node.args[:1] if node.func.id in takers or alone else [])
+                    fine.extend(node.args if node.func.id == "zip" else [])
+            for node in each(tree, ast.Call):
+                called = node.func.attr if isinstance(node.func, ast.Attribute) else getattr(node.func, "id", None)
+                if called in WALKED_AT_ONCE:
+                    self.hold(node in fine, node, "L23")
+
+    def test_own_methods_and_values(self):
+        pythons = {name for kind in (str, int, list, tuple, dict, set, bytes) for name in dir(kind)}
+        methods, kept = {}, {}
+        for file, text, tree in self.each_file():
+            for node in each(tree, ast.ClassDef):
+                names = [part.name for part in node.body if isinstance(part, ast.FunctionDef)]
+                self.hold(len(set(names)) == len(names), node, "L18")
+                methods.update({name: node for name in names if name != "__init__"})
+            for node in each(tree, ast.Attribute):
+                if isinstance(node.ctx, ast.Store):
+                    kept[node.attr] = node
+                    self.hold(isinstance(node.value, ast.Name), node, "L18")
+        self.assertEqual(set(methods) & set(kept), set())
+        self.assertEqual((set(methods) | set(kept)) & pythons, set())
+
     def test_errors(self):
         for file, text, tree in self.each_file():
             for node in each(tree, ast.Raise):

@@ -3,6 +3,7 @@ import itertools
 import random
 import time
 import unittest
+import unittest.mock
 from fractions import Fraction
 
 from tests.samples import EVEN, FLAT, JOIN, LENGTH, PUT, any_program, measured_program
@@ -135,10 +136,11 @@ class Many(unittest.TestCase):
 
     def refused(self, name, sizes, many):
         begin = time.monotonic()
-        with self.assertRaises(TooMany):
-            dearest(KINDS, PLAIN, name, sizes, list(range(many)))
-        with self.assertRaises(TooMany):
-            gap(KINDS, PLAIN, {}, name, sizes, list(range(many)))
+        with unittest.mock.patch("toll.near.trace", side_effect=AssertionError("a run")):
+            with self.assertRaises(TooMany):
+                dearest(KINDS, PLAIN, name, sizes, list(range(many)))
+            with self.assertRaises(TooMany):
+                gap(KINDS, PLAIN, {}, name, sizes, list(range(many)))
         self.assertLess(time.monotonic() - begin, 10)
 
     def test_nums(self):
@@ -216,6 +218,12 @@ class Gap(unittest.TestCase):
         self.assertEqual(gap(LENGTH, PLAIN, generous, "length", [3], [1, 2]), (9, 1))
         self.assertEqual(gap(LENGTH, PLAIN, generous, "length", [3], [1, 2], 4), (16, 1))
         self.assertEqual(gap(LENGTH, PLAIN, generous, "length", [3], [1, 2], 0), (20, 1))
+
+    def test_a_thousand_steps_where_no_most_is_told(self):
+        slow = read("(fn f ((xs list)) (num 0 0) (list xs (give 0) (h t) (give (add (call f t) (call f t)))))")
+        paper = {"f": (flat_sum(2, 5000), flat_sum(9, 9))}
+        self.assertEqual(gap(slow, PLAIN, paper, "f", [9], [1]), (45002 - 1000, 1))
+        self.assertEqual(gap(slow, PLAIN, paper, "f", [9], [1], 5000), (45002 - 2557, 1))
 
     def test_a_size_told_for_a_num_is_not_looked_at(self):
         paper = {"put": (sum_of(((0, 0), 4), ((0, 1), 4)), sum_of(((0, 0), 3), ((0, 1), 3)))}

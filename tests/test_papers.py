@@ -48,6 +48,7 @@ class Faults(unittest.TestCase):
     def test_more_than_needed_holds(self):
         self.fault(None, LENGTH, {"length": (flat_sum(2, 3, 1), flat_sum(5, Fraction(9, 4), 0, 7))})
         self.fault(None, LENGTH, {"length": (flat_sum(Fraction(5, 2), Fraction(7, 2)), flat_sum(9, 9))})
+        self.fault(None, LENGTH, {"length": (flat_sum(2, 3, Fraction(1, 2)), flat_sum(2, 2, Fraction(1, 10 ** 60)))})
 
     def test_the_price(self):
         self.fault(("price", "length", 0), LENGTH, {"length": (flat_sum(1, 3), flat_sum(2, 2))})
